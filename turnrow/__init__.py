@@ -1,0 +1,1 @@
+"""Turnrow: rows that are turned, and words of groves."""
